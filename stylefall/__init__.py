@@ -1,0 +1,1 @@
+"""Stylefall: styled text that looks as it should on every terminal."""
