@@ -40,8 +40,8 @@ def are_names(thing, most):
     return all([is_name(part) for part in thing]) and ascend(thing)
 
 
-def is_gift(thing):
-    """Whether a thing is a pair of an aspect and a value."""
+def is_name_pair(thing):
+    """Whether a thing is a pair of an aspect and a value, or of a kind and a value: the two have one form."""
     return isinstance(thing, tuple) and len(thing) == 2 and is_name(thing[0]) and is_name(thing[1])
 
 
@@ -49,7 +49,7 @@ def are_gifts(thing):
     """Whether a thing has the form of what a code gives."""
     if not isinstance(thing, tuple) or len(thing) == 0:
         return False
-    return all([is_gift(pair) for pair in thing]) and ascend([pair[0] for pair in thing])
+    return all([is_name_pair(pair) for pair in thing]) and ascend([pair[0] for pair in thing])
 
 
 def is_code(thing, aspects):
@@ -95,6 +95,11 @@ def kinds_of(book):
     """The ascending tuple of the kinds of the book's codes."""
     codes = need_book(book)[2]
     return tuple(sorted({code[1] for code in codes}))
+
+
+def codes_by_word(book):
+    """The codes of a book by their words."""
+    return {code[0]: code for code in book[2]}
 
 
 def code_of(book, word):

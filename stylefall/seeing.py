@@ -1,6 +1,6 @@
 """What is seen of a stream on a terminal behind an entry."""
 
-from stylefall.books import are_names, is_letter, is_name, is_sign, need_book, need_stream
+from stylefall.books import are_names, codes_by_word, is_letter, is_name, is_sign, need_book, need_stream
 from stylefall.errors import BadEntry, BadTerminal
 
 MOST_KNOWN = 12
@@ -47,7 +47,7 @@ def seen(book, stream, terminal, entry):
     need_stream(book, stream)
     need_terminal(terminal)
     need_entry(book, entry)
-    codes = {code[0]: code for code in book[2]}
+    codes = codes_by_word(book)
     values = {aspect: entry[aspect] for aspect in book[0]}
     pairs = []
     for item in stream:

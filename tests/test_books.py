@@ -7,15 +7,11 @@ import unittest
 
 from stylefall.books import code_of, kinds_of, need_book, need_stream, signs_of
 from stylefall.errors import BadBook, BadQuestion, BadStream
-from tests.things import Agreeable, Awkward, deep_in, full_book, odd_things, raised_by, told_book
+from tests.things import Agreeable, Awkward, deep_in, full_book, is_name, odd_things, raised_by, told_book
 
 GOOD = object()
 LONG_NAME = "abcdefgh"
 LONG_WORD = "1;;45;78"
-
-
-def is_name(thing):
-    return isinstance(thing, str) and re.fullmatch("[a-z]{1,8}", thing) is not None
 
 
 def is_word(thing):

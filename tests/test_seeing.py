@@ -3,46 +3,15 @@
 import copy
 import itertools
 import random
-import re
 import unittest
 
 from stylefall.errors import BadBook, BadEntry, BadStream, BadTerminal
 from stylefall.seeing import need_entry, need_terminal, seen
-from tests.things import Agreeable, Awkward, deep_in, full_book, odd_things, raised_by, told_book
+from tests.things import (
+    Agreeable, Awkward, Given, deep_in, full_book, is_name, odd_things, raised_by, random_book, sight, told_book)
 
 STREAM = ("33", "38;5;208", "a", "39", "b")
 ENTRY = {"ink": "red", "weight": "plain"}
-
-
-def is_name(thing):
-    return isinstance(thing, str) and re.fullmatch("[a-z]{1,8}", thing) is not None
-
-
-def look_of(book, stream, place, terminal, entry):
-    """The look at a place, each aspect being sought backwards from there."""
-    aspects, shown, codes = book
-    shows = {" ": shown, "\n": ()}.get(stream[place], aspects)
-    table = {word: (kind, dict(gives)) for word, kind, gives in codes}
-    look = []
-    for aspect in shows:
-        ahead = [table[item] for item in stream[:place] if item in table]
-        values = [gives[aspect] for kind, gives in ahead if kind in terminal and aspect in gives]
-        look.append((values or [entry[aspect]])[-1])
-    return tuple(look)
-
-
-def sight(book, stream, terminal, entry):
-    words = [code[0] for code in book[2]]
-    places = [place for place, item in enumerate(stream) if item not in words]
-    return tuple((stream[place], look_of(book, stream, place, terminal, entry)) for place in places)
-
-
-class Given(unittest.TestCase):
-    def check_refused(self, error, deed, *told):
-        """The error has the very thing that was passed last, the whole of it."""
-        raised = raised_by(deed, *told)
-        self.assertIs(raised.__class__, error)
-        self.assertIs(raised.given, told[-1])
 
 
 class Terminals(Given):
@@ -205,23 +174,13 @@ class Seen(unittest.TestCase):
     def test_random_streams_on_all_terminals(self):
         chance = random.Random(4)
         for _ in range(300):
-            book = self.random_book(chance)
+            book = random_book(chance, aspects="abcdef", codes=16, kinds="klm", values="uvwxyz")
             items = [code[0] for code in book[2]] * 2 + ["a", "b", " ", "\n"]
             stream = tuple(chance.choice(items) for _ in range(chance.randint(0, 30)))
             entry = {aspect: chance.choice("uvwxyz") for aspect in chance.sample(book[0], len(book[0]))}
             for many in range(5):
                 for terminal in itertools.combinations("klmn", many):
                     self.assertEqual(seen(book, stream, terminal, entry), sight(book, stream, terminal, entry))
-
-    def random_book(self, chance):
-        aspects = tuple("abcdef"[:chance.randint(1, 6)])
-        shown = tuple(sorted(chance.sample(aspects, chance.randint(0, len(aspects)))))
-        codes = []
-        for number in range(chance.randint(0, 16)):
-            given = sorted(chance.sample(aspects, chance.randint(1, len(aspects))))
-            gives = tuple((aspect, chance.choice("uvwxyz")) for aspect in given)
-            codes.append((str(number), chance.choice("klm"), gives))
-        return (aspects, shown, tuple(codes))
 
 
 class Order(unittest.TestCase):

@@ -1,4 +1,8 @@
-"""What several tests share: books, things of all kinds, and a sight of what a call raises."""
+"""What several tests share: books, things of all kinds, what a call raises, what is seen by the document's words."""
+
+import itertools
+import re
+import unittest
 
 
 class Awkward:
@@ -79,3 +83,71 @@ def raised_by(deed, *told):
     except Exception as error:
         return error
     return None
+
+
+class Given(unittest.TestCase):
+    def check_raised(self, error, deed, *told):
+        """The error that a call raises, which has to be just of this class."""
+        raised = raised_by(deed, *told)
+        self.assertIs(raised.__class__, error)
+        return raised
+
+    def check_refused(self, error, deed, *told):
+        """The error has the very thing that was passed last, the whole of it."""
+        self.assertIs(self.check_raised(error, deed, *told).given, told[-1])
+
+
+def is_name(thing):
+    return isinstance(thing, str) and re.fullmatch("[a-z]{1,8}", thing) is not None
+
+
+def some_of(things):
+    """All tuples of some of the things, in their order, those of fewer first."""
+    return [some for many in range(len(things) + 1) for some in itertools.combinations(things, many)]
+
+
+def words(text):
+    """A stream out of a short text: figures are words, "n" a line end."""
+    return tuple({"n": "\n"}.get(sign, sign) for sign in text)
+
+
+def kinds(book):
+    return tuple(sorted({kind for _, kind, _ in book[2]}))
+
+
+def look_of(book, stream, place, terminal, entry):
+    """The look at a place, each aspect being sought backwards from there."""
+    aspects, shown, codes = book
+    shows = {" ": shown, "\n": ()}.get(stream[place], aspects)
+    table = {word: (kind, dict(gives)) for word, kind, gives in codes}
+    ahead = [table[item] for item in stream[:place] if item in table]
+    look = []
+    for aspect in shows:
+        values = [gives[aspect] for kind, gives in ahead if kind in terminal and aspect in gives]
+        look.append((values or [entry[aspect]])[-1])
+    return tuple(look)
+
+
+def sight(book, stream, terminal, entry):
+    """What is seen, by the words of the document."""
+    words = [code[0] for code in book[2]]
+    places = [place for place, item in enumerate(stream) if item not in words]
+    return tuple((stream[place], look_of(book, stream, place, terminal, entry)) for place in places)
+
+
+def random_book(chance, aspects="abc", codes=5, kinds="klm", values="xy"):
+    """A book with at most so many of each."""
+    aspects = tuple(aspects[:chance.randint(1, len(aspects))])
+    shown = tuple(sorted(chance.sample(aspects, chance.randint(0, len(aspects)))))
+    rows = []
+    for number in range(chance.randint(0, codes)):
+        given = sorted(chance.sample(aspects, chance.randint(1, len(aspects))))
+        rows.append((str(number), chance.choice(kinds), tuple((aspect, chance.choice(values)) for aspect in given)))
+    return (aspects, shown, tuple(rows))
+
+
+def random_stream(chance, book, most):
+    """A stream of the book with at most so many items, about as many words as signs."""
+    words = [code[0] for code in book[2]]
+    return tuple(chance.choice(words if words and chance.random() < 0.6 else "ab \n")
+                 for _ in range(chance.randint(0, most)))
