@@ -21,6 +21,11 @@ def is_name(thing):
     return is_short(thing) and all([sign in LETTERS for sign in thing])
 
 
+def is_number(thing, many):
+    """Whether a thing is the number of one of so many, counted from 0."""
+    return isinstance(thing, int) and not isinstance(thing, bool) and 0 <= thing < many
+
+
 def is_word(thing):
     """Whether a thing has the form of a word."""
     if not is_short(thing) or thing[0] == ";" or thing[-1] == ";":
@@ -97,6 +102,11 @@ def kinds_of(book):
     return tuple(sorted({code[1] for code in codes}))
 
 
+def words_of(book):
+    """The list of the words of the book's codes."""
+    return [code[0] for code in book[2]]
+
+
 def codes_by_word(book):
     """The codes of a book by their words."""
     return {code[0]: code for code in book[2]}
@@ -125,10 +135,10 @@ def is_sign(item):
 
 def need_stream(book, thing):
     """The thing itself, if it is a stream of the book."""
-    codes = need_book(book)[2]
+    need_book(book)
     if not isinstance(thing, tuple) or len(thing) > MOST_ITEMS:
         raise BadStream(None)
-    words = [code[0] for code in codes]
+    words = words_of(book)
     for number, item in enumerate(thing):
         if not isinstance(item, str) or not (is_sign(item) or item in words):
             raise BadStream(number)

@@ -1,6 +1,6 @@
 """Chains: what a text's codes make of an aspect at a place, for all terminals at once."""
 
-from stylefall.books import codes_by_word, is_name_pair, is_sign, need_stream
+from stylefall.books import codes_by_word, is_name_pair, is_number, is_sign, need_stream
 from stylefall.errors import BadChain, BadQuestion
 from stylefall.seeing import need_terminal, shown_at
 
@@ -105,27 +105,26 @@ def pass_code(chains, code):
         chains[aspect] = behind(chains[aspect], kind, value)
 
 
-def is_place(stream, thing):
-    """Whether a thing is a number from 0 to that of all items of the stream."""
-    if isinstance(thing, bool) or not isinstance(thing, int):
-        return False
-    return 0 <= thing <= len(stream)
+def chains_behind(book, items):
+    """The chains of all aspects behind items of a stream, by aspect."""
+    codes = codes_by_word(book)
+    chains = no_chains(book)
+    for item in items:
+        if not is_sign(item):
+            pass_code(chains, codes[item])
+    return chains
 
 
 def chain_at(book, stream, place, aspect):
     """The chain of the aspect at the place of the stream."""
     need_stream(book, stream)
-    if not is_place(stream, place):
+    # There is a place ahead of each item, and one behind all of them.
+    if not is_number(place, len(stream) + 1):
         raise BadQuestion("the stream has no such place")
     # Only strings are compared: what else is passed may answer "==" in any way.
     if not isinstance(aspect, str) or aspect not in book[0]:
         raise BadQuestion("the book has no such aspect")
-    codes = codes_by_word(book)
-    chains = no_chains(book)
-    for item in stream[:place]:
-        if not is_sign(item):
-            pass_code(chains, codes[item])
-    return chains[aspect]
+    return chains_behind(book, stream[:place])[aspect]
 
 
 def chains_shown(book, stream):

@@ -6,9 +6,14 @@ from stylefall.errors import BadEntry, BadTerminal
 MOST_KNOWN = 12
 
 
+def is_terminal(thing):
+    """Whether a thing is a terminal."""
+    return are_names(thing, MOST_KNOWN)
+
+
 def need_terminal(thing):
     """The thing itself, if it is a terminal."""
-    if not are_names(thing, MOST_KNOWN):
+    if not is_terminal(thing):
         raise BadTerminal(thing)
     return thing
 

@@ -1,15 +1,14 @@
 """Tests of stylefall.chains: promises 5 and 6, and 1 to 4 for these functions."""
 
 import copy
-import itertools
 import random
 import unittest
 
 from stylefall.chains import chain_at, form, need_chain, same, told_apart, worth
 from stylefall.errors import BadBook, BadChain, BadQuestion, BadStream, BadTerminal
 from tests.things import (
-    Agreeable, Awkward, Given, deep_in, full_book, is_name, odd_things, raised_by, random_book, random_stream, some_of,
-    told_book)
+    Agreeable, Awkward, Given, all_chains, chain_of, deep_in, form_of, full_book, is_chain, odd_things, raised_by,
+    random_book, random_stream, some_of, told_book, worth_of)
 
 STREAM = ("33", "38;5;208", "a", "39", "b")
 AT_A = (("many", "orange"), ("basic", "yellow"))
@@ -22,46 +21,10 @@ NO_CHAINS = (
     (("a", "x"), ("b", "x"), ("a", "x")), TWELVE + (("m", "v"),), (("A", "x"),), (("a", "X"),), Awkward(), Agreeable())
 
 
-def is_chain(thing):
-    if not isinstance(thing, tuple) or len(thing) > 12:
-        return False
-    for pair in thing:
-        if not isinstance(pair, tuple) or len(pair) != 2 or not is_name(pair[0]) or not is_name(pair[1]):
-            return False
-    return len(dict(thing)) == len(thing)
-
-
-def worth_of(chain, terminal):
-    return next((value for kind, value in chain if kind in terminal), None)
-
-
 def partings(one, other):
     """All terminals on which two chains have unlike worths, those of fewer kinds first."""
     kinds = sorted(dict(one + other))
     return [terminal for terminal in some_of(kinds) if worth_of(one, terminal) != worth_of(other, terminal)]
-
-
-def form_of(chain):
-    runs = itertools.groupby(chain, key=lambda pair: pair[1])
-    return tuple((value, tuple(sorted(kind for kind, _ in pairs))) for value, pairs in runs)
-
-
-def chain_of(book, stream, place, aspect):
-    """The chain, each kind's last code being sought backwards from the place."""
-    table = {word: (kind, dict(gives)) for word, kind, gives in book[2]}
-    chain = {}
-    for item in stream[:place][::-1]:
-        kind, gives = table.get(item, (None, {}))
-        if aspect in gives:
-            chain.setdefault(kind, gives[aspect])
-    return tuple(chain.items())
-
-
-def all_chains(kinds, values):
-    for some in some_of(kinds):
-        for order in itertools.permutations(some):
-            for given in itertools.product(values, repeat=len(order)):
-                yield tuple(zip(order, given))
 
 
 class NeedChain(Given):

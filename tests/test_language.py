@@ -123,6 +123,16 @@ class Names(unittest.TestCase):
             self.assertNotIn(name, PYTHONS_OWN - {"__init__", "__doc__"}, path)
             self.assertNotIn(name, NOT_NAMED, path)
 
+    def test_no_name_in_a_function_is_that_of_an_import_or_a_class_of_the_file(self):
+        taken = {path: {node.name for node in tree.body if isinstance(node, ast.ClassDef)} | {
+            alias.asname or alias.name for node in tree.body if isinstance(node, ast.ImportFrom)
+            for alias in node.names} for path, tree in trees()}
+        for path, node in nodes((ast.Name, ast.arg)):
+            if isinstance(node, ast.arg):
+                self.assertNotIn(node.arg, taken[path], (path, node.lineno))
+            elif isinstance(node.ctx, ast.Store):
+                self.assertNotIn(node.id, taken[path], (path, node.lineno))
+
     def test_builtins_that_are_used(self):
         for path, node in nodes(ast.Name):
             if node.id in PYTHONS_OWN:

@@ -106,6 +106,46 @@ def some_of(things):
     return [some for many in range(len(things) + 1) for some in itertools.combinations(things, many)]
 
 
+def worth_of(chain, terminal):
+    """The worth of a chain on a terminal, or None."""
+    return next((value for kind, value in chain if kind in terminal), None)
+
+
+def all_chains(kinds, values):
+    """All chains of some of the kinds, each with one of the values."""
+    for some in some_of(kinds):
+        for order in itertools.permutations(some):
+            for given in itertools.product(values, repeat=len(order)):
+                yield tuple(zip(order, given))
+
+
+def is_chain(thing):
+    """Whether a thing is a chain."""
+    if not isinstance(thing, tuple) or len(thing) > 12:
+        return False
+    for pair in thing:
+        if not isinstance(pair, tuple) or len(pair) != 2 or not is_name(pair[0]) or not is_name(pair[1]):
+            return False
+    return len(dict(thing)) == len(thing)
+
+
+def form_of(chain):
+    """The form of a chain."""
+    runs = itertools.groupby(chain, key=lambda pair: pair[1])
+    return tuple((value, tuple(sorted(kind for kind, _ in pairs))) for value, pairs in runs)
+
+
+def chain_of(book, stream, place, aspect):
+    """The chain, each kind's last code being sought backwards from the place."""
+    table = {word: (kind, dict(gives)) for word, kind, gives in book[2]}
+    chain = {}
+    for item in stream[:place][::-1]:
+        kind, gives = table.get(item, (None, {}))
+        if aspect in gives:
+            chain.setdefault(kind, gives[aspect])
+    return tuple(chain.items())
+
+
 def words(text):
     """A stream out of a short text: figures are words, "n" a line end."""
     return tuple({"n": "\n"}.get(sign, sign) for sign in text)
@@ -133,6 +173,30 @@ def sight(book, stream, terminal, entry):
     words = [code[0] for code in book[2]]
     places = [place for place, item in enumerate(stream) if item not in words]
     return tuple((stream[place], look_of(book, stream, place, terminal, entry)) for place in places)
+
+
+def bad_books():
+    """Some things that are no books."""
+    return [None, True, 0, "", (), [], list(told_book()), told_book()[:2], ((), (), ()), (("a",), ("b",), ()),
+            (("a",), (), (("1", "k", (("b", "x"),)),)), Awkward(), Agreeable(), deep_in(tuple, "a", 50000)]
+
+
+def many_codes(book, many):
+    """The book with more codes, so many in all, of the last kind and for the last aspect."""
+    kind, aspect = kinds(book)[-1], book[0][-1]
+    more = tuple((f"9;{at}", kind, ((aspect, "more"),)) for at in range(many - len(book[2])))
+    return book[:2] + (book[2] + more,)
+
+
+def all_rows(book):
+    """All rows of unlike words of a book."""
+    words = [code[0] for code in book[2]]
+    return [row for many in range(len(words) + 1) for row in itertools.permutations(words, many)]
+
+
+def plain(book):
+    """The entry in which each aspect is plain."""
+    return {aspect: "plain" for aspect in book[0]}
 
 
 def random_book(chance, aspects="abc", codes=5, kinds="klm", values="xy"):
