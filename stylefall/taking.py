@@ -68,7 +68,8 @@ def reach(needs, goal, words):
 def without_idle(needs, goal, words):
     """What is left of words that reach the goal if those without which the others reach it are left out."""
     kept = words
-    for word in words:
+    # The last ones go first: what they alone have need of can go then, too.
+    for word in words[::-1]:
         fewer = [other for other in kept if other != word]
         if reach(needs, goal, fewer):
             kept = fewer

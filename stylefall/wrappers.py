@@ -68,7 +68,7 @@ def need_tree(book, wrappers, thing):
 
 
 def draw(wrappers, tree, around, again):
-    """The list of the items that are drawn of a tree behind the words around, those that open the wrappers there."""
+    """The list of the items that are drawn of a tree behind the words around, those of the opening rows there."""
     items = []
     for item in tree:
         if isinstance(item, tuple):
@@ -90,7 +90,7 @@ def drawn(book, wrappers, tree):
 
 
 def drawn_again(book, wrappers, tree):
-    """What is drawn of the tree if, behind each close, all that is still open is opened once more."""
+    """What is drawn of the tree if, behind each closing row, the opening rows around it come once more."""
     need_tree(book, wrappers, tree)
     return tuple(draw(wrappers, tree, (), True))
 
